@@ -47,13 +47,13 @@ func routeRight(lay Layout, route Route) bool {
 			return false
 		}
 		section := route.Path[i].Section
-		if section == route.Foot || names(route.Path[:i], section) {
+		if section == route.Foot || Names(route.Path[:i], section) {
 			return false
 		}
 	}
 	for i := 0; i < len(route.Flank); i++ {
 		section := route.Flank[i].Section
-		if names(route.Path, section) || names(route.Flank[:i], section) {
+		if Names(route.Path, section) || Names(route.Flank[:i], section) {
 			return false
 		}
 		if !lay.HasSwitch(section) || isLast(lay, section) {
@@ -68,7 +68,8 @@ func pathItemRight(lay Layout, item Item) bool {
 	return lay.HasSection(item.Section) && lay.HasSwitch(item.Section) == signed
 }
 
-func names(items []Item, section int) bool {
+// Names tells whether a path or a flank, or a part of one, names a section.
+func Names(items []Item, section int) bool {
 	for _, item := range items {
 		if item.Section == section {
 			return true
@@ -88,7 +89,7 @@ func isLast(lay Layout, section int) bool {
 
 func inFlank(lay Layout, section int) bool {
 	for _, route := range lay.Routes {
-		if names(route.Flank, section) {
+		if Names(route.Flank, section) {
 			return true
 		}
 	}

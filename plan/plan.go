@@ -41,6 +41,20 @@ func (route Route) Last() int {
 	return route.Path[len(route.Path)-1].Section
 }
 
+// Switches answers the switches of a route, each as the route wants it.
+func (route Route) Switches() []Item {
+	var switches []Item
+	for _, item := range route.Path {
+		if item.Sign != NoSign {
+			switches = append(switches, item)
+		}
+	}
+	for _, item := range route.Flank {
+		switches = append(switches, item)
+	}
+	return switches
+}
+
 // HasSection tells whether there is a section of that number.
 func (lay Layout) HasSection(section int) bool {
 	return section >= 0 && section < len(lay.Switches)
@@ -51,10 +65,20 @@ func (lay Layout) HasSwitch(section int) bool {
 	return lay.HasSection(section) && lay.Switches[section]
 }
 
+// HasRoute tells whether there is a route of that number.
+func (lay Layout) HasRoute(number int) bool {
+	return number >= 0 && number < len(lay.Routes)
+}
+
+// HasTrain tells whether there is a train of that number.
+func (lay Layout) HasTrain(number int) bool {
+	return number >= 0 && number < len(lay.Trains)
+}
+
 // RouteAt answers the route of a number, or false if the layout has none:
 // a journey that has only been read may name any.
 func (lay Layout) RouteAt(number int) (Route, bool) {
-	if number < 0 || number >= len(lay.Routes) {
+	if !lay.HasRoute(number) {
 		return Route{}, false
 	}
 	return lay.Routes[number], true

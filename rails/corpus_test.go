@@ -128,3 +128,15 @@ func (d *draw) shuttle() string {
 	}
 	return fmt.Sprintf("111/%s/%s/%s", strings.Repeat(".", length), strings.Join(routes, ","), strings.Join(trains, ","))
 }
+
+// boxLayouts are such in which routes and switches get in each other's way.
+var boxLayouts = []string{
+	"219/.yy.../a>b+d!c-,e>c+f/aA,eB",
+	"911/.yy../a>b+d!c-,e>c+d/aA,eB",
+	"933/.y.y../a>b+c!d+,c>b-a,e>d+f!b-,f>d-e/aAB,eCD",
+	"922/.y..../a>b+cd,d>b-e,f>cb+e/aA,dB,fC",
+	"955/..y..y../a>c+d,d>e,e>f+g,h>f-e,e>d,d>c-b/aABC,hDEF",
+	"935/.yyyy...../f>b+c-g,g>c+b-f,h>d+e-i!b+,i>e+h!c-d+,a>j!b-c-d-e-/fABAB,hCDC,aE",
+	"999/......./a>b,b>c,c>d,d>e,e>f,f>g/aABC,bBCD,cCDE,dDEF,eEF",
+	"111/......../a>bcdefg,g>h,h>a/aABCA",
+}

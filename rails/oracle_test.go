@@ -39,6 +39,7 @@ func (r toldRoute) last() string { return r.path[len(r.path)-1].section }
 type toldTrain struct{ start, journey string }
 
 type toldLayout struct {
+	times    string
 	sections string
 	routes   []toldRoute
 	trains   []toldTrain
@@ -55,7 +56,7 @@ func tellItems(text string) []toldItem {
 // tell takes a text of the form apart.
 func tell(text string) toldLayout {
 	parts := strings.Split(text, "/")
-	lay := toldLayout{sections: parts[1]}
+	lay := toldLayout{times: parts[0], sections: parts[1]}
 	for _, r := range strings.Split(parts[2], ",") {
 		foot, rest, _ := strings.Cut(r, ">")
 		path, flank, _ := strings.Cut(rest, "!")

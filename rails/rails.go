@@ -5,10 +5,9 @@ import (
 	"strconv"
 
 	"rails/api"
+	"rails/frames"
+	"rails/safety"
 )
-
-// Box is an interlocking at work.
-type Box struct{}
 
 // Check tells whether a text is a layout (P3).
 func Check(layout string) (api.Errno, int) {
@@ -31,30 +30,79 @@ func Order(layout string, at string) (string, api.Errno) {
 	if !safe {
 		return "", api.ErrStuck
 	}
-	digits := ""
-	for _, train := range order {
-		digits += strconv.Itoa(train + 1)
-	}
-	return digits, api.OK
+	return digits(order), api.OK
 }
 
 // New makes a box of a layout (P6).
-func New(layout string) (*Box, api.Errno) { return nil, api.OK }
+func New(layout string) (*Box, api.Errno) {
+	lay, e, _ := load(layout)
+	if e != api.OK {
+		return nil, e
+	}
+	b := &Box{lay: lay, granted: safety.AtFirst(lay)}
+	for range lay.Switches {
+		b.wanted = append(b.wanted, '+')
+	}
+	for _, route := range lay.Routes {
+		b.routes = append(b.routes, routeState{route: route, phase: api.Idle})
+	}
+	return b, api.OK
+}
 
 // Cycle does one cycle (P7 to P12).
-func (b *Box) Cycle(frame string) string { return "" }
+func (b *Box) Cycle(frame string) string {
+	seen, ok := frames.Read(b.lay, frame)
+	if !ok {
+		return "!"
+	}
+	b.stepRoutes(seen)
+	replies := b.obey(seen.Commands)
+	trains := b.grantFromQueue(seen)
+	return b.answer(seen, replies, trains)
+}
 
 // Locks tells by which route each section is locked (P13).
-func (b *Box) Locks() string { return "" }
+func (b *Box) Locks() string {
+	var text []byte
+	for section := range b.lay.Switches {
+		number, locked := b.lockedBy(section)
+		if locked {
+			text = append(text, 'A'+byte(number))
+		} else {
+			text = append(text, '.')
+		}
+	}
+	return string(text)
+}
 
 // Phases tells the phase of each route (P13).
-func (b *Box) Phases() string { return "" }
+func (b *Box) Phases() string {
+	var text []byte
+	for _, r := range b.routes {
+		text = append(text, r.phase)
+	}
+	return string(text)
+}
 
 // Switches tells as what each switch is wanted, or that it has failed (P13).
-func (b *Box) Switches() string { return "" }
+func (b *Box) Switches() string {
+	var text []byte
+	for section, sign := range b.wanted {
+		if b.lay.HasSwitch(section) {
+			text = append(text, sign)
+		}
+	}
+	return string(text)
+}
 
 // At tells the state of the trains (P13).
-func (b *Box) At() string { return "" }
+func (b *Box) At() string {
+	text := ""
+	for _, count := range b.granted {
+		text += strconv.Itoa(count)
+	}
+	return text
+}
 
 // Queue tells which trains are in the queue (P13).
-func (b *Box) Queue() string { return "" }
+func (b *Box) Queue() string { return digits(b.queue) }

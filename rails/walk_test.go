@@ -1,0 +1,248 @@
+package rails_test
+
+import (
+	"slices"
+	"testing"
+
+	"rails/api"
+	"rails/rails"
+)
+
+// told is all that a box tells when it is asked.
+type told struct{ locks, phases, switches, at, queue string }
+
+func askBox(b *rails.Box) told {
+	return told{b.Locks(), b.Phases(), b.Switches(), b.At(), b.Queue()}
+}
+
+func newBox(t *testing.T, layout string) *rails.Box {
+	t.Helper()
+	b, e := rails.New(layout)
+	if b == nil || e != api.OK {
+		t.Fatalf("P6: New(%q) = %v, %d", layout, b, e)
+	}
+	return b
+}
+
+// replay answers a box behind some frames.
+func replay(t *testing.T, layout string, frames []string) *rails.Box {
+	t.Helper()
+	b := newBox(t, layout)
+	for _, frame := range frames {
+		b.Cycle(frame)
+	}
+	return b
+}
+
+// frameOf draws a frame that fits a box: most of what it says helps the trains
+// on, the rest is as may be.
+func (d *draw) frameOf(b *toldBox) string {
+	frame := ""
+	for n := range b.lay.sections {
+		frame += d.occupancy(b, letter(n))
+	}
+	for _, section := range b.switches() {
+		if d.below(3) > 0 {
+			frame += b.wanted[string(section)]
+		} else {
+			frame += d.oneOf("+-?")
+		}
+	}
+	for d.below(2) == 0 && len(frame) < 63 {
+		frame += d.commandOf(b)
+	}
+	return frame
+}
+
+// occupancy is 1 most often where a train is awaited, else 0 most often.
+func (d *draw) occupancy(b *toldBox, section string) string {
+	switch phase := b.phase[b.lock[section]]; {
+	case phase == "t":
+		return d.oneOf("01")
+	case phase == "g":
+		return d.oneOf("0001")
+	}
+	return d.oneOf("000000000001")
+}
+
+func (d *draw) commandOf(b *toldBox) string {
+	switch n := d.below(8); {
+	case n == 0:
+		return "c" + capital(d.below(len(b.lay.routes)))
+	case n == 1 && b.switches() != "":
+		return "m" + d.oneOf(b.switches())
+	}
+	return "r" + digit(d.below(len(b.lay.trains)))
+}
+
+// compare hands a frame to the program and to the second reading of the
+// document, and tells whether they say the same of it.
+func compare(t *testing.T, layout string, frames []string, frame string, b *rails.Box, oracle *toldBox) bool {
+	t.Helper()
+	want := oracle.cycle(frame)
+	got := b.Cycle(frame)
+	if got != want {
+		t.Errorf("P7 to P12: %q, behind %q: Cycle(%q) = %q, want %q", layout, frames, frame, got, want)
+		return false
+	}
+	if is := askBox(b); is != oracle.tells() {
+		t.Errorf("P13: %q, behind %q: Cycle(%q) makes %+v, want %+v", layout, frames, frame, is, oracle.tells())
+		return false
+	}
+	return true
+}
+
+// walk goes a way of drawn frames, texts that are none among them.
+func walk(t *testing.T, d *draw, layout string, length int) {
+	t.Helper()
+	b, oracle := newBox(t, layout), newToldBox(layout)
+	var frames []string
+	for range length {
+		frame := d.frameOf(oracle)
+		if d.below(10) == 0 {
+			frame = d.changed(frame)
+		}
+		try := oracle.clone()
+		try.cycle(frame)
+		if try.beyond {
+			continue
+		}
+		if !compare(t, layout, frames, frame, b, oracle) {
+			return
+		}
+		frames = append(frames, frame)
+	}
+}
+
+func TestWalksOfGoodLayouts(t *testing.T) {
+	d := &draw{seed: 11}
+	for _, layout := range slices.Concat(goodLayouts, boxLayouts) {
+		for range 60 {
+			walk(t, d, layout, 120)
+		}
+	}
+}
+
+func TestWalksOfDrawnLayouts(t *testing.T) {
+	d := &draw{seed: 12}
+	for n := 0; n < 1500; {
+		layout := d.layout()
+		if n%3 == 0 {
+			layout = d.shuttle()
+		}
+		if e, _ := rails.Check(layout); e == api.OK {
+			walk(t, d, layout, 60)
+			n++
+		}
+	}
+}
+
+// allFrames answers every frame with at most one request.
+func allFrames(b *toldBox) []string {
+	frames := []string{""}
+	for range b.lay.sections {
+		frames = withEach(frames, "0", "1")
+	}
+	for range b.switches() {
+		frames = withEach(frames, "+", "-", "?")
+	}
+	requests := []string{""}
+	for n := range b.lay.trains {
+		requests = append(requests, "r"+digit(n))
+	}
+	return withEach(frames, requests...)
+}
+
+func withEach(begins []string, ends ...string) []string {
+	var all []string
+	for _, begin := range begins {
+		for _, end := range ends {
+			all = append(all, begin+end)
+		}
+	}
+	return all
+}
+
+// Of small layouts every frame is handed to a box in every state to which
+// frames can bring it.
+func TestEveryFrameInEveryState(t *testing.T) {
+	for _, layout := range []string{
+		"111/../a>b/aA",
+		"111/../a>b,b>a/aABA",
+		"111/.../a>bc/aA",
+		"112/.../a>b,c>b/aA,cB",
+		"211/.y/a>b-/aA",
+		"211/.y./a>c!b-/aA",
+		"119/..../a>bcd/aA",
+		"212/.y./a>b+,b>c,c>b-/aABC",
+		"219/.yy../a>b+d!c-,e>c+d/aA,eB",
+	} {
+		exploreAll(t, layout)
+	}
+}
+
+func exploreAll(t *testing.T, layout string) {
+	t.Helper()
+	first := newToldBox(layout)
+	every := allFrames(first)
+	seen := map[string]bool{first.key(): true}
+	for ways := [][]string{nil}; len(ways) > 0; ways = ways[1:] {
+		way := ways[0]
+		here := newToldBox(layout)
+		for _, frame := range way {
+			here.cycle(frame)
+		}
+		for _, frame := range every {
+			there := here.clone()
+			there.cycle(frame)
+			if there.beyond {
+				continue
+			}
+			if !compare(t, layout, way, frame, replay(t, layout, way), here.clone()) {
+				return
+			}
+			if !seen[there.key()] {
+				seen[there.key()] = true
+				ways = append(ways, append(slices.Clone(way), frame))
+			}
+		}
+	}
+}
+
+// Boxes beside each other and questions in between change nothing.
+func TestBoxesSideBySide(t *testing.T) {
+	d := &draw{seed: 13}
+	for _, layout := range slices.Concat(goodLayouts, boxLayouts) {
+		oracle := newToldBox(layout)
+		asked, other := newBox(t, layout), newBox(t, layout)
+		var frames, answers []string
+		for range 40 {
+			frame := d.frameOf(oracle)
+			try := oracle.clone()
+			try.cycle(frame)
+			if try.beyond {
+				continue
+			}
+			oracle = try
+			before := askBox(asked)
+			for range d.below(4) {
+				other.Cycle(d.frameOf(oracle))
+				other.Locks()
+				if is := askBox(asked); is != before {
+					t.Fatalf("P2, P13: %q, behind %q: %+v, at first %+v", layout, frames, is, before)
+				}
+			}
+			frames = append(frames, frame)
+			answers = append(answers, asked.Cycle(frame))
+		}
+		alone := newBox(t, layout)
+		for i, frame := range frames {
+			if got := alone.Cycle(frame); got != answers[i] {
+				t.Fatalf("P2: %q, behind %q: Cycle(%q) = %q, beside others %q", layout, frames[:i], frame, got, answers[i])
+			}
+		}
+		if askBox(alone) != askBox(asked) {
+			t.Errorf("P2: %q, behind %q: %+v, beside others %+v", layout, frames, askBox(alone), askBox(asked))
+		}
+	}
+}
