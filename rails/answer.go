@@ -26,12 +26,13 @@ func (b *Box) signals() string {
 
 func (b *Box) moves(seen frames.Frame) string {
 	var text []byte
-	for section, sign := range b.wanted {
+	for section, s := range b.switches {
 		if !b.lay.HasSwitch(section) {
 			continue
 		}
-		if b.isAwaited(section) && !seen.Occupied(section) && !seen.ReportedAs(section, sign) {
-			text = append(text, sign)
+		mayMove := b.isAwaited(section) && !seen.Occupied(section) && !s.failed
+		if mayMove && !seen.ReportedAs(section, s.wanted) {
+			text = append(text, s.wanted)
 		} else {
 			text = append(text, '.')
 		}

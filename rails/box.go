@@ -8,30 +8,56 @@ import (
 
 // Box is an interlocking at work.
 type Box struct {
-	lay     plan.Layout
-	routes  []routeState
-	wanted  []byte // for each section, the sign as which its switch is wanted
-	granted []int  // for each train, how many routes of its journey it has
-	queue   []int
+	lay      plan.Layout
+	routes   []routeState
+	switches []switchState // for each section, though not each has a switch
+	granted  []int         // for each train, how many routes of its journey it has
+	queue    []int
 }
 
+// stepRoutes takes each route one step on (P9).
 func (b *Box) stepRoutes(seen frames.Frame) {
 	for i := range b.routes {
-		b.routes[i].step(seen)
+		broken := b.anyFailed(b.routes[i].route.Switches())
+		givenUp := b.routes[i].step(seen, broken)
+		if givenUp {
+			b.putBack(b.routes[i].train)
+		}
+	}
+}
+
+// putBack takes from a train the route that was granted to it last.
+func (b *Box) putBack(train int) {
+	if train >= 0 && train < len(b.granted) {
+		b.granted[train]--
 	}
 }
 
 // obey does the commands (P10) and answers a byte for each.
-func (b *Box) obey(commands []frames.Command) []byte {
+func (b *Box) obey(seen frames.Frame) []byte {
 	var replies []byte
-	for _, command := range commands {
-		reply := byte('n') // no route is dropped yet, and no switch fails
-		if command.Kind == frames.Request {
+	for _, command := range seen.Commands {
+		var reply byte
+		switch command.Kind {
+		case frames.Request:
 			reply = b.request(command.Number)
+		case frames.Cancel:
+			reply = b.cancel(command.Number, seen)
+		case frames.Mend:
+			reply = b.mend(command.Number)
 		}
 		replies = append(replies, reply)
 	}
 	return replies
+}
+
+// cancel drops a route, if it may be dropped, and answers the byte for it.
+func (b *Box) cancel(number int, seen frames.Frame) byte {
+	if number < 0 || number >= len(b.routes) || !b.routes[number].mayDrop() {
+		return 'n'
+	}
+	b.routes[number].drop(seen, b.lay.D)
+	return 'k'
 }
 
 // lockedBy answers the number of the route by which a section is locked.
@@ -67,16 +93,6 @@ func (b *Box) isAwaited(section int) bool {
 		}
 	}
 	return false
-}
-
-func (b *Box) isWantedAs(section int, sign byte) bool {
-	return section >= 0 && section < len(b.wanted) && b.wanted[section] == sign
-}
-
-func (b *Box) want(section int, sign byte) {
-	if section >= 0 && section < len(b.wanted) {
-		b.wanted[section] = sign
-	}
 }
 
 func (b *Box) hasRouteSet(train int) bool {

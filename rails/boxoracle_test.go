@@ -8,22 +8,23 @@ import (
 )
 
 // What the document says of a box, written a second time, in texts and maps by
-// the names of things. It holds the program to all that has landed; where a
-// switch would fail or a route would be dropped it says that it is beyond that.
+// the names of things.
 
 type toldBox struct {
 	lay    toldLayout
 	form   *regexp.Regexp
 	phase  map[string]string // by a route's capital
 	setFor map[string]string // by a route's capital: a train's digit
+	beenG  map[string]bool   // by a route's capital
+	count  map[string]int    // by a route's capital
 	marked map[string]bool   // by a route's capital and a section's letter
 	lock   map[string]string // by a section's letter: a route's capital
 	wanted map[string]string // by a section's letter
 	late   map[string]int    // by a section's letter
+	failed map[string]bool   // by a section's letter
 	safe   map[string]bool   // by a state: what has been found out of it
 	at     string
 	queue  string
-	beyond bool
 }
 
 func capital(n int) string { return string(rune('A' + n)) }
@@ -32,9 +33,9 @@ func digit(n int) string   { return string(rune('1' + n)) }
 
 func newToldBox(layout string) *toldBox {
 	b := &toldBox{
-		lay: tell(layout), phase: map[string]string{}, setFor: map[string]string{}, marked: map[string]bool{},
-		lock: map[string]string{}, wanted: map[string]string{}, late: map[string]int{},
-		safe: map[string]bool{},
+		lay: tell(layout), phase: map[string]string{}, setFor: map[string]string{}, beenG: map[string]bool{},
+		count: map[string]int{}, marked: map[string]bool{}, lock: map[string]string{}, wanted: map[string]string{},
+		late: map[string]int{}, failed: map[string]bool{}, safe: map[string]bool{},
 	}
 	commands := "r[1-" + digit(len(b.lay.trains)-1) + "]|c[A-" + capital(len(b.lay.routes)-1) + "]"
 	if b.switches() != "" {
@@ -54,13 +55,14 @@ func newToldBox(layout string) *toldBox {
 func (b *toldBox) clone() *toldBox {
 	c := *b
 	c.phase, c.setFor, c.marked = maps.Clone(b.phase), maps.Clone(b.setFor), maps.Clone(b.marked)
+	c.beenG, c.count, c.failed = maps.Clone(b.beenG), maps.Clone(b.count), maps.Clone(b.failed)
 	c.lock, c.wanted, c.late = maps.Clone(b.lock), maps.Clone(b.wanted), maps.Clone(b.late)
 	return &c
 }
 
 // key is another for each two boxes that differ.
 func (b *toldBox) key() string {
-	return fmt.Sprint(b.phase, b.setFor, b.marked, b.lock, b.wanted, b.late, b.at, b.queue)
+	return fmt.Sprint(b.phase, b.setFor, b.beenG, b.count, b.marked, b.lock, b.wanted, b.late, b.failed, b.at, b.queue)
 }
 
 // switches answers the letters of the sections with a switch.
@@ -129,7 +131,7 @@ func (b *toldBox) cycle(frame string) string {
 	}
 	replies := ""
 	for commands := frame[len(b.lay.sections)+len(b.switches()):]; commands != ""; commands = commands[2:] {
-		replies += b.obey(commands[:1], commands[1:2])
+		replies += b.obey(commands[:1], commands[1:2], s)
 	}
 	served := ""
 	for _, train := range b.queue {
@@ -141,16 +143,31 @@ func (b *toldBox) cycle(frame string) string {
 	return "=" + b.signals() + "/" + b.moves(s) + "/" + replies + "/" + served
 }
 
-// countLate is P8, up to the first switch that fails.
+// time answers T, D or Q, by its place.
+func (b *toldBox) time(place int) int { return int(b.lay.times[place] - '0') }
+
+// countLate is P8.
 func (b *toldBox) countLate(s sight) {
 	for section, sign := range b.wanted {
-		if !b.isHeld(section) || s.reported[section] == sign {
+		if b.isHeld(section) && !b.failed[section] && s.reported[section] != sign {
+			b.late[section]++
+		} else {
 			delete(b.late, section)
-			continue
 		}
-		b.late[section]++
-		b.beyond = b.beyond || b.late[section] == int(b.lay.times[0]-'0')
+		if b.late[section] == b.time(0) {
+			b.failed[section] = true
+			delete(b.late, section)
+		}
 	}
+}
+
+func (b *toldBox) anyFailed(name string) bool {
+	for section := range b.wants(name) {
+		if b.failed[section] {
+			return true
+		}
+	}
+	return false
 }
 
 func (b *toldBox) anyOccupied(name string, s sight) bool {
@@ -175,16 +192,18 @@ func (b *toldBox) goOn(name string, s sight) {
 	first := b.route(name).path[0].section
 	switch b.phase[name] {
 	case "w":
-		if b.allReported(name, s) && !b.anyOccupied(name, s) {
-			b.phase[name] = "g"
+		if b.anyFailed(name) {
+			b.phase[name] = "f"
+		} else if b.allReported(name, s) && !b.anyOccupied(name, s) {
+			b.phase[name], b.beenG[name] = "g", true
 		}
 	case "g":
 		if s.occupied[first] {
 			b.phase[name] = "t"
-			for _, p := range b.route(name).path {
-				delete(b.marked, name+p.section)
-			}
+			b.unmark(name)
 			b.marked[name+first] = true
+		} else if b.anyFailed(name) {
+			b.phase[name] = "f"
 		} else if !b.allReported(name, s) || b.anyOccupied(name, s) {
 			b.phase[name] = "w"
 		}
@@ -195,7 +214,33 @@ func (b *toldBox) goOn(name string, s sight) {
 			}
 		}
 		b.release(name, s)
+	case "d":
+		if s.occupied[first] {
+			b.phase[name] = "t"
+			b.unmark(name)
+			b.marked[name+first] = true
+		} else if b.count[name] > 0 {
+			b.count[name]--
+		} else if !b.anyOccupied(name, s) {
+			for _, p := range b.route(name).path {
+				delete(b.lock, p.section)
+			}
+			b.phase[name] = "."
+			b.at = b.changed(b.setFor[name], -1)
+		}
 	}
+}
+
+func (b *toldBox) unmark(name string) {
+	for _, p := range b.route(name).path {
+		delete(b.marked, name+p.section)
+	}
+}
+
+// changed answers the state in which a train has more routes granted by a number.
+func (b *toldBox) changed(train string, by int) string {
+	n := train[0] - '1'
+	return b.at[:n] + fmt.Sprint(int(b.at[n]-'0')+by) + b.at[n+1:]
 }
 
 func (b *toldBox) release(name string, s sight) {
@@ -228,22 +273,39 @@ func (b *toldBox) next(train string) string {
 	return journey[:1]
 }
 
-func (b *toldBox) obey(kind, name string) string {
+func (b *toldBox) obey(kind, name string, s sight) string {
+	switch kind {
+	case "c":
+		return b.cancel(name, s)
+	case "m":
+		if !b.failed[name] {
+			return "n"
+		}
+		delete(b.failed, name)
+		return "m"
+	}
 	switch {
-	case kind == "c":
-		b.beyond = b.beyond || strings.Contains("wgf", b.phase[name])
-		return "n"
-	case kind == "m":
-		return "n"
 	case b.next(name) == "":
 		return "d"
 	case strings.Contains(b.queue, name):
 		return "t"
-	case len(b.queue) >= int(b.lay.times[2]-'0'):
+	case len(b.queue) >= b.time(2):
 		return "f"
 	}
 	b.queue += name
 	return "q"
+}
+
+func (b *toldBox) cancel(name string, s sight) string {
+	if !strings.Contains("wgf", b.phase[name]) {
+		return "n"
+	}
+	b.phase[name] = "d"
+	delete(b.count, name)
+	if b.beenG[name] && s.occupied[b.route(name).foot] {
+		b.count[name] = b.time(1)
+	}
+	return "k"
 }
 
 func (b *toldBox) isSafe(at string) bool {
@@ -267,22 +329,25 @@ func (b *toldBox) grant(train string, s sight) bool {
 			return false
 		}
 	}
+	if b.anyFailed(name) {
+		return false
+	}
 	for section, sign := range b.wants(name) {
 		mayMove := !b.isHeld(section) && b.lock[section] == "" && !s.occupied[section]
 		if b.wanted[section] != sign && !mayMove {
 			return false
 		}
 	}
-	n := train[0] - '1'
-	after := b.at[:n] + string(b.at[n]+1) + b.at[n+1:]
+	after := b.changed(train, 1)
 	if !b.isSafe(after) {
 		return false
 	}
 	b.at = after
 	b.phase[name], b.setFor[name] = "w", train
+	delete(b.beenG, name)
+	b.unmark(name)
 	for _, p := range b.route(name).path {
 		b.lock[p.section] = name
-		delete(b.marked, name+p.section)
 	}
 	for section, sign := range b.wants(name) {
 		b.wanted[section] = sign
@@ -310,7 +375,7 @@ func (b *toldBox) moves(s sight) string {
 			_, among := b.wants(capital(n))[section]
 			awaited = awaited || among && b.phase[capital(n)] == "w"
 		}
-		if awaited && !s.occupied[section] && s.reported[section] != b.wanted[section] {
+		if awaited && !s.occupied[section] && !b.failed[section] && s.reported[section] != b.wanted[section] {
 			moves += b.wanted[section]
 		} else {
 			moves += "."
@@ -329,7 +394,11 @@ func (b *toldBox) tells() told {
 		is.phases += b.phase[capital(n)]
 	}
 	for _, section := range b.switches() {
-		is.switches += b.wanted[string(section)]
+		if b.failed[string(section)] {
+			is.switches += "x"
+		} else {
+			is.switches += b.wanted[string(section)]
+		}
 	}
 	is.at, is.queue = b.at, b.queue
 	return is

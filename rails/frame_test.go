@@ -22,7 +22,14 @@ func testNoFrame(t *testing.T, b *rails.Box, text string) {
 }
 
 func TestNoFrames(t *testing.T) {
-	frames := []string{"10000001++r1r2", "10000001++", "10100001++", "00110001++r1"}
+	testNoFramesAmong(t, []string{"10000001++r1r2", "10000001++", "10100001++", "00110001++r1"})
+	testNoFramesAmong(t, []string{"10000001++r1r2", "10000001++", "10000001++cA", "10000001++", "10000001++", "10000001++"})
+	testNoFramesAmong(t, []string{"10000001++r2", "10000001++", "10000001++", "10000001++", "10000001++mfcD", "10000001++r2"})
+}
+
+// testNoFramesAmong lays what is no frame of LINE behind each of the frames.
+func testNoFramesAmong(t *testing.T, frames []string) {
+	t.Helper()
 	for n := range len(frames) + 1 {
 		b := replay(t, line, frames[:n])
 		for _, text := range []string{

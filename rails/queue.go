@@ -49,7 +49,8 @@ func (b *Box) grantNext(train int, seen frames.Frame) bool {
 		return false
 	}
 	route := b.routes[number].route
-	if b.hasRouteSet(train) || !b.mayLock(route.Path, seen) || !b.mayWant(route.Switches(), seen) {
+	switches := route.Switches()
+	if b.hasRouteSet(train) || !b.mayLock(route.Path, seen) || !b.mayWant(switches, seen) {
 		return false
 	}
 	after := oneMore(b.granted, train)
@@ -59,7 +60,7 @@ func (b *Box) grantNext(train int, seen frames.Frame) bool {
 	}
 	b.granted = after
 	b.routes[number].set(train)
-	for _, item := range route.Switches() {
+	for _, item := range switches {
 		b.want(item.Section, item.Sign)
 	}
 	return true
@@ -74,9 +75,12 @@ func (b *Box) mayLock(path []plan.Item, seen frames.Frame) bool {
 	return isFree(path, seen)
 }
 
-// mayWant tells whether each of the switches is wanted so already, or may be
-// moved.
+// mayWant tells whether none of the switches has failed and each is wanted so
+// already, or may be moved.
 func (b *Box) mayWant(switches []plan.Item, seen frames.Frame) bool {
+	if b.anyFailed(switches) {
+		return false
+	}
 	for _, item := range switches {
 		if b.isWantedAs(item.Section, item.Sign) {
 			continue

@@ -41,7 +41,7 @@ func New(layout string) (*Box, api.Errno) {
 	}
 	b := &Box{lay: lay, granted: safety.AtFirst(lay)}
 	for range lay.Switches {
-		b.wanted = append(b.wanted, '+')
+		b.switches = append(b.switches, switchState{wanted: '+'})
 	}
 	for _, route := range lay.Routes {
 		b.routes = append(b.routes, routeState{route: route, phase: api.Idle})
@@ -55,8 +55,9 @@ func (b *Box) Cycle(frame string) string {
 	if !ok {
 		return "!"
 	}
+	b.countLate(seen)
 	b.stepRoutes(seen)
-	replies := b.obey(seen.Commands)
+	replies := b.obey(seen)
 	trains := b.grantFromQueue(seen)
 	return b.answer(seen, replies, trains)
 }
@@ -87,9 +88,14 @@ func (b *Box) Phases() string {
 // Switches tells as what each switch is wanted, or that it has failed (P13).
 func (b *Box) Switches() string {
 	var text []byte
-	for section, sign := range b.wanted {
-		if b.lay.HasSwitch(section) {
-			text = append(text, sign)
+	for section, s := range b.switches {
+		if !b.lay.HasSwitch(section) {
+			continue
+		}
+		if s.failed {
+			text = append(text, 'x')
+		} else {
+			text = append(text, s.wanted)
 		}
 	}
 	return string(text)
